@@ -1,0 +1,1 @@
+"""What sequences of turns, cuts and added lines do to every picture."""

@@ -1,0 +1,79 @@
+"""The interface as it is listed: where each name is defined, and the names and kinds of the parameters."""
+
+import importlib
+import inspect
+import unittest
+
+FUNCTIONS = {
+    "running": {
+        "check_steps": "(steps)",
+        "run": "(picture, steps)",
+        "pictures_along": "(picture, steps)",
+    },
+}
+CLASSES = {
+    "pictures": {
+        "Picture": {
+            "__init__": "(self, rows)",
+            "filled": "(cls, height, width, colour)",
+            "numbered": "(cls, height, width, *, first=0)",
+            "rows": None, "height": None, "width": None,
+            "__getitem__": "(self, at)",
+            "__contains__": "(self, colour)",
+            "line": "(self, side)",
+            "turned": "(self)",
+            "mirrored": "(self)",
+            "cut": "(self, side)",
+            "added": "(self, side, colour)",
+            "__eq__": "(self, other)",
+            "__repr__": "(self)",
+        },
+    },
+    "symmetries": {
+        "Symmetry": {
+            "__init__": "(self, turns=0, mirrors=False)",
+            "every": "()",
+            "turns": None, "mirrors": None,
+            "__mul__": "(self, other)",
+            "inverse": "(self)",
+            "side": "(self, side)",
+            "steps": "(self)",
+            "apply": "(self, picture)",
+            "__eq__": "(self, other)",
+            "__repr__": "(self)",
+        },
+    },
+}
+KINDS = {"filled": classmethod, "numbered": classmethod, "every": staticmethod}
+
+
+class TestInterface(unittest.TestCase):
+
+    def test_functions(self):
+        for file, functions in FUNCTIONS.items():
+            module = importlib.import_module("pictureframes." + file)
+            for name, signature in functions.items():
+                function = getattr(module, name)
+                self.assertEqual(function.__module__, module.__name__)
+                self.assertEqual(str(inspect.signature(function)), signature)
+
+    def test_classes(self):
+        for file, classes in CLASSES.items():
+            module = importlib.import_module("pictureframes." + file)
+            for class_name, methods in classes.items():
+                owner = getattr(module, class_name)
+                self.assertEqual(owner.__module__, module.__name__)
+                for name, signature in methods.items():
+                    self.check_method(vars(owner)[name], name, signature)
+
+    def check_method(self, held, name, signature):
+        """Compare what a class's own body holds under a name with what is listed; None stands for a property."""
+        if signature is None:
+            self.assertIsInstance(held, property, name)
+            return
+        self.assertIs(type(held), KINDS.get(name, type(self.check_method.__func__)), name)
+        self.assertEqual(str(inspect.signature(getattr(held, "__func__", held))), signature, name)
+
+
+if __name__ == "__main__":
+    unittest.main()
