@@ -15,7 +15,7 @@ class RaisingCase(unittest.TestCase):
     """A test case that looks at the fields of errors."""
 
     def assert_raises(self, error, fields, call, *args, **named):
-        """Demand that the call raises exactly this error; each field is the very object, or an equal integer or tuple."""
+        """Demand exactly this error; each field is the very object, or an equal integer or tuple."""
         with self.assertRaises(error) as caught:
             call(*args, **named)
         self.assertIs(type(caught.exception), error)

@@ -43,7 +43,9 @@ class Unshowable:
     __str__ = __repr__
 
 
-ANY_VALUES = (None, True, False, 0, -1, 10 ** 99, "", "top", b"x", [1, [2]], (1, 2), {}, {1}, 1.5, object(), int, Unshowable())
+ANY_VALUES = (
+    None, True, False, 0, -1, 10 ** 99, "", "top", b"x", [1, [2]], (1, 2), {}, {1}, 1.5, object(), int, Unshowable(),
+)
 
 
 class TestErrors(unittest.TestCase):

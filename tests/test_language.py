@@ -121,9 +121,10 @@ class TestLanguage(unittest.TestCase):
                 self.assertIn(node.name.strip("_"), DUNDERS, place)
 
     def test_decorators(self):
+        allowed = r"^(property|staticmethod|classmethod|[a-z_]+\.setter)$"
         for place, node in nodes((ast.FunctionDef, ast.ClassDef)):
             for decorator in node.decorator_list:
-                self.assertRegex(ast.unparse(decorator), r"^(property|staticmethod|classmethod|[a-z_]+\.setter)$", place)
+                self.assertRegex(ast.unparse(decorator), allowed, place)
 
     def test_constants(self):
         docstrings = [node.value for place, node in nodes(ast.Expr)]

@@ -23,7 +23,8 @@ NO_STEPS = (
     ("Turn",), ("turns",), ("",), (b"turn",), (None,), (0,), (["turn"],), (("turn",),), ({},), (Picture([[1]]),),
     ("turn", "turn"), ("turn", 1), ("turn", None), ("turn", "top"), ("mirror", "top"), ("mirror", 0), ("mirror", None),
     ("cut",), ("cut", "top", 1), ("cut", "top", None), ("cut", "top", "top"), ("add",), ("add", "top"), ("add", 1),
-    ("add", "top", 1, 1), ("add", "top", 1, None), ("add", 1, "top"), ("top", "cut"), ("top",), ("cuts", "top"), (None, "top"),
+    ("add", "top", 1, 1), ("add", "top", 1, None), ("add", 1, "top"), ("top", "cut"), ("top",), ("cuts", "top"),
+    (None, "top"),
     ("added", "top", 1), (None, "top", 1), ("turn", "top", 1), ("cut", "add", 1),
 )
 
@@ -112,7 +113,8 @@ class TestRun(RaisingCase):
     def test_last_line(self):
         for side in SIDES:
             self.assert_raises(LastLine, {"index": 0}, run, Picture([[5]]), [("cut", side)])
-            self.assert_raises(LastLine, {"index": 2}, run, Picture([[5]]), [TURN, MIRROR, ("cut", side), ("cut", side)])
+            steps = [TURN, MIRROR, ("cut", side), ("cut", side)]
+            self.assert_raises(LastLine, {"index": 2}, run, Picture([[5]]), steps)
         self.assert_raises(LastLine, {"index": 1}, run, Picture(UNLIKE), [("cut", "top"), ("cut", "bottom")])
         self.assert_raises(LastLine, {"index": 2}, run, Picture(UNLIKE), [("cut", "left")] * 5)
         self.assert_raises(LastLine, {"index": 2}, run, Picture(UNLIKE), [TURN, ("cut", "left"), ("cut", "right")])
