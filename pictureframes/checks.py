@@ -1,4 +1,4 @@
-"""The kinds of values that all files share: counts, colours, sides and lengths."""
+"""The kinds of values that all files share: integers, counts, colours, sides and lengths."""
 
 from pictureframes.errors import InvalidColour, InvalidCount, InvalidSide
 
@@ -6,10 +6,15 @@ from pictureframes.errors import InvalidColour, InvalidCount, InvalidSide
 SIDES = ("top", "right", "bottom", "left")
 
 
+def is_whole(value):
+    """Tell whether a value is an integer."""
+    # True and False are of the class int, too.
+    return isinstance(value, int) and not isinstance(value, bool)
+
+
 def is_count(value):
     """Tell whether a value is an integer of at least 0."""
-    # True and False are of the class int, too.
-    return isinstance(value, int) and not isinstance(value, bool) and value >= 0
+    return is_whole(value) and value >= 0
 
 
 def is_colour(value):
@@ -32,6 +37,12 @@ def check_side(side):
     """Raise InvalidSide for a value that is no side."""
     if not is_side(side):
         raise InvalidSide(side)
+
+
+def check_count(count):
+    """Raise InvalidCount for a value that is no count."""
+    if not is_count(count):
+        raise InvalidCount(count)
 
 
 def check_length(length):

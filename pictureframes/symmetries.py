@@ -5,6 +5,21 @@ from pictureframes.errors import InvalidSymmetry
 from pictureframes.pictures import Picture, check_picture, mirrored_rows, turned_rows
 
 
+def check_symmetry(symmetry):
+    """Raise InvalidSymmetry for a value that is no symmetry."""
+    if not isinstance(symmetry, Symmetry):
+        raise InvalidSymmetry(symmetry)
+
+
+def moved_rows(rows, symmetry):
+    """Return the rows mirrored and turned."""
+    if symmetry.mirrors:
+        rows = mirrored_rows(rows)
+    for _ in range(symmetry.turns):
+        rows = turned_rows(rows)
+    return rows
+
+
 class Symmetry:
     """Mirrors a picture or does not, and then turns it 0 to 3 times to the right."""
 
@@ -65,12 +80,7 @@ class Symmetry:
     def apply(self, picture):
         """Return the picture mirrored and turned."""
         check_picture(picture)
-        rows = picture.rows
-        if self._mirrors:
-            rows = mirrored_rows(rows)
-        for _ in range(self._turns):
-            rows = turned_rows(rows)
-        return Picture(rows)
+        return Picture(moved_rows(picture.rows, self))
 
     def __eq__(self, other):
         return isinstance(other, Symmetry) and self._turns == other._turns and self._mirrors == other._mirrors

@@ -10,6 +10,20 @@ FUNCTIONS = {
         "run": "(picture, steps)",
         "pictures_along": "(picture, steps)",
     },
+    "algebra": {
+        "compose": "(*effects)",
+        "power": "(effect, count)",
+        "commute": "(one, other)",
+        "is_idempotent": "(effect)",
+        "undo": "(effect)",
+        "separating_picture": "(one, other)",
+    },
+    "sizes": {
+        "outcome": "(steps, height, width)",
+        "act_alike": "(one_steps, other_steps)",
+        "differing_picture": "(one_steps, other_steps)",
+        "running_size": "(steps)",
+    },
 }
 CLASSES = {
     "pictures": {
@@ -43,8 +57,42 @@ CLASSES = {
             "__repr__": "(self)",
         },
     },
+    "frames": {
+        "Frame": {
+            "__init__": "(self, lines)",
+            "around": "(picture, row, column, height, width)",
+            "widths": None,
+            "colours": "(self, side)",
+            "colour": "(self, row, column)",
+            "order": "(self)",
+            "orders": "(self)",
+            "count_orders": "(self)",
+            "peelable": "(self)",
+            "cut": "(self, side)",
+            "moved": "(self, symmetry)",
+            "enclose": "(self, picture)",
+            "__eq__": "(self, other)",
+            "__len__": "(self)",
+            "__repr__": "(self)",
+        },
+    },
+    "effects": {
+        "Effect": {
+            "__init__": "(self, symmetry, lost, frame)",
+            "of": "(cls, steps)",
+            "identity": "(cls)",
+            "symmetry": None, "lost": None, "frame": None, "smallest": None,
+            "apply": "(self, picture)",
+            "then": "(self, other)",
+            "__eq__": "(self, other)",
+            "__repr__": "(self)",
+        },
+    },
 }
-KINDS = {"filled": classmethod, "numbered": classmethod, "every": staticmethod}
+KINDS = {
+    "filled": classmethod, "numbered": classmethod, "every": staticmethod, "around": staticmethod, "of": classmethod,
+    "identity": classmethod,
+}
 
 
 class TestInterface(unittest.TestCase):

@@ -5,37 +5,12 @@ import inspect
 from pictureframes.errors import InvalidPicture, InvalidSequence, LastLine
 from pictureframes.pictures import Picture
 from pictureframes.running import check_steps, pictures_along, run
-from samples import NO_COLOURS, NO_PICTURES, NO_SIDES, SIDES, UNLIKE, RaisingCase
+from samples import MIRROR, NO_PICTURES, NO_SEQUENCES, SIDES, TURN, UNLIKE, RaisingCase, all_wrong_steps
 
-TURN = ("turn",)
-MIRROR = ("mirror",)
 STEPS = (
     [TURN, MIRROR] + [("cut", side) for side in SIDES]
     + [("add", side, colour) for side in SIDES for colour in (0, 7, 10 ** 99)]
 )
-NO_SEQUENCES = (
-    None, True, False, 0, 1, "", "turn", b"", {}, {0: TURN}, {TURN}, object(), range(0), iter([TURN]), TURN.__class__,
-    Picture([[1]]), [TURN] * 201, (TURN,) * 201, [None] * 201, [TURN] * 1000,
-)
-NO_STEPS = (
-    None, True, 0, "", "turn", b"turn", [], {}, object(), Picture([[1]]),
-    (), ["turn"], ["mirror"], ["cut", "top"], ["add", "top", 1],
-    ("Turn",), ("turns",), ("",), (b"turn",), (None,), (0,), (["turn"],), (("turn",),), ({},), (Picture([[1]]),),
-    ("turn", "turn"), ("turn", 1), ("turn", None), ("turn", "top"), ("mirror", "top"), ("mirror", 0), ("mirror", None),
-    ("cut",), ("cut", "top", 1), ("cut", "top", None), ("cut", "top", "top"), ("add",), ("add", "top"), ("add", 1),
-    ("add", "top", 1, 1), ("add", "top", 1, None), ("add", 1, "top"), ("top", "cut"), ("top",), ("cuts", "top"),
-    (None, "top"),
-    ("added", "top", 1), (None, "top", 1), ("turn", "top", 1), ("cut", "add", 1),
-)
-
-
-def all_wrong_steps():
-    """Return the wrong steps above, and those with a wrong side or colour."""
-    wrong = list(NO_STEPS)
-    wrong.extend([("cut", value) for value in NO_SIDES])
-    wrong.extend([("add", value, 1) for value in NO_SIDES])
-    wrong.extend([("add", "top", value) for value in NO_COLOURS])
-    return wrong
 
 
 class TestExamples(RaisingCase):
