@@ -1,9 +1,11 @@
-"""The kinds of values that all files share: integers, counts, colours, sides and lengths."""
+"""The kinds of values that all files share: integers, counts, colours, sides, lengths and names."""
 
-from pictureframes.errors import InvalidColour, InvalidCount, InvalidSide
+from pictureframes.errors import InvalidColour, InvalidCount, InvalidName, InvalidSide
 
 # Their order is that of a quarter turn to the right: each side comes to the next one.
 SIDES = ("top", "right", "bottom", "left")
+LETTERS = "abcdefghijklmnopqrstuvwxyz"
+MOST_LETTERS = 8
 
 
 def is_whole(value):
@@ -25,6 +27,13 @@ def is_colour(value):
 def is_side(value):
     """Tell whether a value is a side."""
     return isinstance(value, str) and value in SIDES
+
+
+def is_name(value):
+    """Tell whether a value is a name: a text of 1 to 8 lowercase letters."""
+    if not isinstance(value, str) or len(value) == 0 or len(value) > MOST_LETTERS:
+        return False
+    return all([letter in LETTERS for letter in value])
 
 
 def check_colour(colour):
@@ -49,3 +58,9 @@ def check_length(length):
     """Raise InvalidCount for a value that is no height and no width."""
     if not is_count(length) or length == 0:
         raise InvalidCount(length)
+
+
+def check_name(name):
+    """Raise InvalidName for a value that is no name."""
+    if not is_name(name):
+        raise InvalidName(name)

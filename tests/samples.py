@@ -21,6 +21,11 @@ NO_EFFECTS = (
     None, True, 0, "", [], (), [("turn",)], ("cut", "top"), (Symmetry(), (0, 0, 0, 0), Frame(())), Frame(()),
     Symmetry(), Picture([[1]]), object(), Effect,
 )
+NAMES = ("a", "z", "ann", "abcdefgh", "zzzzzzzz")
+NO_NAMES = (
+    None, True, 0, "", "abcdefghi", "A", "Ann", "aB", "a1", "1", "a b", " a", "a ", "a_b", "a-b", "-", "a\n", "\n",
+    b"a", ("a",), ["a"], {"a": 1}, {"a"}, object(), str,
+)
 UNLIKE = ((1, 2, 3), (4, 5, 6))
 # Larger than all colours of steps in the tests.
 FRESH = 1000

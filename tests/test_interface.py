@@ -24,6 +24,34 @@ FUNCTIONS = {
         "differing_picture": "(one_steps, other_steps)",
         "running_size": "(steps)",
     },
+    "powers": {
+        "power_summary": "(effect, exponent)",
+        "power_colour": "(effect, exponent, row, column)",
+    },
+    "shortening": {
+        "shortest": "(effect)",
+        "shortest_length": "(effect)",
+        "hidden_pairs": "(steps)",
+    },
+    "observations": {
+        "effects_between": "(before, after)",
+        "agreeing_effects": "(observations)",
+    },
+    "plans": {
+        "distance": "(start, goal)",
+        "plan": "(start, goal)",
+    },
+    "painting": {
+        "paint": "(wishes)",
+    },
+    "formats": {
+        "format_picture": "(picture)",
+        "format_steps": "(steps)",
+        "format_effect": "(effect)",
+        "parse_picture": "(text)",
+        "parse_steps": "(text)",
+        "parse_effect": "(text)",
+    },
 }
 CLASSES = {
     "pictures": {
@@ -86,6 +114,25 @@ CLASSES = {
             "then": "(self, other)",
             "__eq__": "(self, other)",
             "__repr__": "(self)",
+        },
+    },
+    "galleries": {
+        "Gallery": {
+            "__init__": "(self, pictures)",
+            "run": "(self, user, name, steps)",
+            "undo": "(self, user)",
+            "picture": "(self, name)",
+            "names": None, "entries": None,
+            "copy": "(self)",
+            "__eq__": "(self, other)",
+            "__len__": "(self)",
+        },
+    },
+    "console": {
+        "Console": {
+            "__init__": "(self)",
+            "execute": "(self, line)",
+            "__len__": "(self)",
         },
     },
 }
